@@ -1,0 +1,1 @@
+"""Towerline: towers that repeat signs, for all numbers of them."""

@@ -1,0 +1,38 @@
+"""What kinds the things are that callers pass.
+
+Each of these may be asked of any thing at all, so each looks at the kind
+before it compares, measures or goes through the thing.
+"""
+
+from towerline.errors import OutOfPlace
+
+
+def is_integer(thing, least, most):
+    """Whether a thing is an integer from least to most."""
+    # True and False are ints to Python, but no integers to this package.
+    if not isinstance(thing, int) or isinstance(thing, bool):
+        return False
+    return least <= thing <= most
+
+
+def is_tuple(thing, least, most):
+    """Whether a thing is a tuple of least to most things."""
+    return isinstance(thing, tuple) and least <= len(thing) <= most
+
+
+def is_word(thing, signs):
+    """Whether a thing is a string of some signs, at least one."""
+    if not isinstance(thing, str) or thing == "":
+        return False
+    return all([sign in signs for sign in thing])
+
+
+def is_ascending(row):
+    """Whether each item of a string or a tuple of strings is greater than the one ahead."""
+    return all([row[at - 1] < row[at] for at in range(1, len(row))])
+
+
+def need_integer(thing, least, most, name):
+    """Refuse what is no integer from least to most."""
+    if not is_integer(thing, least, most):
+        raise OutOfPlace(f"{name} is no integer from {least} to {most}")
