@@ -56,7 +56,46 @@ GREATEST = (
     all_pairs("abcdez"),
 )
 
-SAMPLES = (SPREAD, SPREAD_BAD, RING, ALONE, EDGES, NO_STARTS, DEAD_STARTS, LEAST)
+# "i" alone never stands, which windows of size 2 do not tell, those of size 3 do.
+SOUND_3 = ("is", (("<i", "s", ">is", "i"),), ("<i", "is", "s>"), ("<i>",), ())
+
+# Only windows of size 4 tell that "ee" never stands at the last tower.
+SOUND_4 = (
+    "ew",
+    (("<", "e", ">w", "w"), ("<ew", "w", "w", "e"), ("w", "w", ">ew", "e")),
+    ("<e", "ew", "w>", "we"),
+    ("ee>",),
+    ("<w", "ew", "ww"),
+)
+
+# "kyk" never comes, but lines with it fit the tables of all sizes.
+UNTOLD = ("ky", (("k", "y", "y", "k"), ("<k", "k", ">y", "y")), ("<y", "k>", "kk", "y>", "yk", "yy"), ("kyk",), ("yy",))
+
+# The lines that can never move have all towers in "b"; as ends they are told by size 3, and by size 4 alone.
+FREE_3 = (
+    "bg",
+    (("bg", "b", ">g", "g"), ("g", "g", ">bg", "b"), ("<bg", "b", "g", "g")),
+    ("<b", "b>", "bg", "g>", "gb"),
+    ("gb",),
+    ("<b", "<g", "b>", "bb"),
+)
+FREE_4 = (
+    "st",
+    (("<", "t", ">t", "s"), ("t", "t", ">st", "s"), ("<", "s", "st", "t"), ("t", "s", ">s", "t")),
+    ("<s", "st", "t>", "ts"),
+    ("ts",),
+    ("<s", "s>", "tt"),
+)
+
+# Nothing moves; the bad and stuck starts have six towers, or seven, at least.
+LONG_6 = ("abcde", (("<", "b", ">", "a"),), ("<a", "a>", "ab", "bc", "cd", "de", "ea"), ("ea",), ("<a", "a>"))
+LONG_7 = (
+    "abcdef", LONG_6[1], ("<a", "a>", "ab", "bc", "cd", "de", "ef", "fa"), ("fa",), ("<a", "a>", "ab", "bc"),
+)
+
+SAMPLES = (
+    SPREAD, SPREAD_BAD, RING, ALONE, EDGES, NO_STARTS, DEAD_STARTS, LEAST, SOUND_3, SOUND_4, UNTOLD, FREE_3, FREE_4,
+)
 
 
 class Odd:
@@ -191,6 +230,19 @@ def slow_table(task, size, lines):
     return tuple(sorted(known))
 
 
+def slow_fitting(size, table, signs, most):
+    """All LINES of at most so many towers that FIT a TABLE of this SIZE, those with fewer towers first."""
+    known = set(table)
+    found = []
+    ahead = [""]
+    for _ in range(most):
+        longer = [line + sign for line in ahead for sign in signs]
+        # A beginning of a LINE that FITS has only WINDOWS of the TABLE, but for those with ">".
+        ahead = [line for line in longer if {one for one in slow_windows(size, line) if ">" not in one} <= known]
+        found += [line for line in ahead if slow_windows(size, line) <= known]
+    return found
+
+
 def slow_distances(task, towers):
     """For each LINE that COMES the least number of MOVES to it."""
     lines = ["".join(line) for line in itertools.product(task[0], repeat=towers)]
@@ -206,6 +258,37 @@ def slow_distances(task, towers):
                     later.append(beyond)
         fresh = later
     return found
+
+
+def slow_longest(task, line, ahead=()):
+    """The greatest number of MOVES from a LINE on, or None if a LINE comes back."""
+    if line in ahead:
+        return None
+    most = 0
+    for move in slow_moves(task, line):
+        more = slow_longest(task, slow_after(task, line, move), ahead + (line,))
+        if more is None:
+            return None
+        most = max(most, more + 1)
+    return most
+
+
+def slow_beat(task, line):
+    """The LINE behind one BEAT."""
+    shown = list(line)
+    # Of several rules at one tower the first one is taken last here, so it stays.
+    for tower, number in reversed(slow_moves(task, line)):
+        shown[tower] = task[1][number][3]
+    return "".join(shown)
+
+
+def slow_orbit(task, line):
+    """All unlike LINES behind 0 BEATS and more, and the number of the one that comes again."""
+    found = []
+    while line not in found:
+        found.append(line)
+        line = slow_beat(task, line)
+    return found, found.index(line)
 
 
 def slow_many_runs(task, towers, count):

@@ -5,8 +5,8 @@ import inspect
 import unittest
 
 from tests.samples import GREATEST, RING, SPREAD, all_pairs, odd_things
-from towerline import rules, runs, windows
-from towerline.errors import BadTask, OutOfPlace, TooGreat
+from towerline import always, beats, ranks, rules, runs, stuck, windows
+from towerline.errors import BadPaper, BadTask, OutOfPlace, TooGreat
 
 INTERFACE = {
     rules: {
@@ -22,16 +22,28 @@ INTERFACE = {
         "lines_that_come": "task towers", "bad_run": "task towers", "stuck_run": "task towers",
         "most_moves": "task towers", "many_runs": "task towers count",
     },
+    always: {"is_sound": "task size", "sound_paper": "task", "check_sound": "task paper"},
+    stuck: {"is_free": "task size", "stuck_line": "task size", "free_paper": "task", "check_free": "task paper"},
+    ranks: {"lively": "task size", "ranks": "task size", "rank_sum": "task size line"},
+    beats: {"beat": "task line", "fate": "task line", "line_at": "task line beats"},
 }
+PAPER_WORDS = {"check_sound": "sound", "check_free": "free"}
 GOOD = {
     "thing": SPREAD, "task": SPREAD, "value": "ba", "line": "ba", "move": (1, 0), "codes": ((1, 0),), "size": 3,
-    "table": ("<b", "a>", "ba"), "towers": 3, "count": 2,
+    "table": ("<b", "a>", "ba"), "towers": 3, "count": 2, "beats": 5,
 }
 WRONG = {
     "line": "", "move": (0, 0), "codes": ((0, 0),), "size": 5, "table": ("ba", "a>"), "towers": 0, "count": 201,
+    "beats": -1,
 }
 BAD_TASK = SPREAD[:2] + (("<>",),) + SPREAD[3:]
+SPREAD_TABLE = ("<b", "a>", "aa", "b>", "ba", "bb")
 FUNCTIONS = [(module, name, told.split()) for module, names in INTERFACE.items() for name, told in names.items()]
+
+
+def good(name, word):
+    """A right argument of this name for a function."""
+    return (PAPER_WORDS[name], SPREAD_TABLE) if word == "paper" else GOOD[word]
 
 
 class Interface(unittest.TestCase):
@@ -50,16 +62,16 @@ class Interface(unittest.TestCase):
     def test_by_position_and_by_name(self):
         for module, name, told in FUNCTIONS:
             function = getattr(module, name)
-            by_position = function(*[GOOD[word] for word in told])
-            self.assertEqual(function(**{word: GOOD[word] for word in told}), by_position)
-            self.assertEqual(function(**{word: GOOD[word] for word in reversed(told)}), by_position)
+            by_position = function(*[good(name, word) for word in told])
+            self.assertEqual(function(**{word: good(name, word) for word in told}), by_position)
+            self.assertEqual(function(**{word: good(name, word) for word in reversed(told)}), by_position)
 
     def test_equal_calls_return_the_same_and_nothing_is_changed(self):
         before = copy.deepcopy(GOOD)
         for module, name, told in FUNCTIONS:
             function = getattr(module, name)
-            first = function(*[GOOD[word] for word in told])
-            again = function(*[copy.deepcopy(GOOD)[word] for word in told])
+            first = function(*[good(name, word) for word in told])
+            again = function(*[copy.deepcopy(good(name, word)) for word in told])
             self.assertEqual(first, again)
             self.assertIs(type(first), type(again))
         self.assertEqual(GOOD, before)
@@ -70,9 +82,12 @@ class Interface(unittest.TestCase):
             "is_bad": bool, "is_stuck": bool, "run_end": str, "windows_of": tuple, "does_fit": bool, "alive": tuple,
             "is_closed": bool, "table_of": tuple, "many_lines": int, "lines_that_come": tuple,
             "bad_run": type(None), "stuck_run": type(None), "most_moves": int, "many_runs": int,
+            "is_sound": bool, "sound_paper": tuple, "check_sound": str, "is_free": bool, "stuck_line": type(None),
+            "free_paper": tuple, "check_free": str, "lively": tuple, "ranks": tuple, "rank_sum": int, "beat": str,
+            "fate": tuple, "line_at": str,
         }
         for module, name, told in FUNCTIONS:
-            self.assertIs(type(getattr(module, name)(*[GOOD[word] for word in told])), kinds[name], name)
+            self.assertIs(type(getattr(module, name)(*[good(name, word) for word in told])), kinds[name], name)
 
 
 class Order(unittest.TestCase):
@@ -87,7 +102,7 @@ class Order(unittest.TestCase):
                         function(wrong, *[WRONG.get(word) for word in told[1:]])
                     self.assertEqual(caught.exception.part, "starts" if wrong is BAD_TASK else "form")
                     with self.assertRaises(BadTask):
-                        function(wrong, *[GOOD[word] for word in told[1:]])
+                        function(wrong, *[good(name, word) for word in told[1:]])
 
     def test_each_argument_is_refused(self):
         for module, name, told in FUNCTIONS:
@@ -107,6 +122,16 @@ class Order(unittest.TestCase):
                             things = {**{other: GOOD[other] for other in told}, word: thing}
                             self.assertRaises(OutOfPlace, getattr(module, name), **things)
 
+    def test_papers_come_last(self):
+        for name, call in (("check_sound", always.check_sound), ("check_free", stuck.check_free)):
+            for wrong in (None, (), ("form",), (PAPER_WORDS[name], ()), (PAPER_WORDS[name], SPREAD_TABLE)):
+                with self.assertRaises(BadTask) as caught:
+                    call(BAD_TASK, wrong)
+                self.assertEqual(caught.exception.part, "starts")
+                self.assertRaises(BadTask, call, paper=wrong, task=BAD_TASK)
+            for wrong in (None, (), ("form",), (PAPER_WORDS[name], ())):
+                self.assertRaises(BadPaper, call, SPREAD, wrong)
+
     def test_arguments_are_checked_ahead_of_what_is_too_great(self):
         great = ("abcdef", (("<", "a", ">", "b"),), all_pairs("abcdef"), (), ())
         self.assertRaises(TooGreat, runs.many_runs, great, 8, 1)
@@ -115,6 +140,9 @@ class Order(unittest.TestCase):
         self.assertRaises(TooGreat, windows.table_of, great, 4)
         self.assertRaises(OutOfPlace, windows.table_of, great, 5)
         self.assertRaises(BadTask, windows.table_of, great[:4], 5)
+        self.assertRaises(TooGreat, ranks.rank_sum, great, 4, "a")
+        self.assertRaises(OutOfPlace, ranks.rank_sum, great, 5, "a")
+        self.assertRaises(OutOfPlace, ranks.rank_sum, great, 4, "")
 
     def test_the_texts_of_refusals_go_from_left_to_right(self):
         # The wording is free, but it tells which argument was looked at first.
@@ -129,6 +157,11 @@ class Order(unittest.TestCase):
         self.assertEqual(text(runs.many_runs, RING, 9, 201), text(runs.many_runs, RING, 9, 1))
         self.assertEqual(text(rules.after, RING, "", None), text(rules.after, RING, "", (0, 0)))
         self.assertEqual(text(rules.run_end, RING, "", None), text(rules.run_end, RING, "", ()))
+        self.assertEqual(text(ranks.rank_sum, RING, 5, ""), text(ranks.rank_sum, RING, 5, "a"))
+        self.assertNotEqual(text(ranks.rank_sum, RING, 5, ""), text(ranks.rank_sum, RING, 2, ""))
+        for line in ("", "a" * 13):
+            self.assertEqual(text(beats.line_at, RING, line, -1), text(beats.line_at, RING, line, 1))
+            self.assertNotEqual(text(beats.line_at, RING, line, -1), text(beats.line_at, RING, "a", -1))
 
     def test_a_refusal_changes_nothing(self):
         for _ in range(2):
@@ -145,6 +178,10 @@ class Integers(unittest.TestCase):
             self.assertRaises(OutOfPlace, windows.many_lines, RING, (), thing)
             self.assertRaises(OutOfPlace, runs.lines_that_come, RING, thing)
             self.assertRaises(OutOfPlace, runs.many_runs, RING, 1, thing)
+            self.assertRaises(OutOfPlace, always.is_sound, RING, thing)
+            self.assertRaises(OutOfPlace, stuck.is_free, RING, thing)
+            self.assertRaises(OutOfPlace, ranks.ranks, RING, thing)
+            self.assertRaises(OutOfPlace, beats.line_at, RING, "a", thing)
             self.assertRaises(OutOfPlace, rules.after, RING, "ab", (thing, int(thing)))
             self.assertRaises(OutOfPlace, rules.after, RING, "ab", (0, thing))
             self.assertRaises(OutOfPlace, rules.run_end, RING, "aa", ((0, thing),))
@@ -154,6 +191,8 @@ class Integers(unittest.TestCase):
             self.assertRaises(OutOfPlace, windows.windows_of, thing, "a")
             self.assertRaises(OutOfPlace, windows.many_lines, RING, (), thing)
             self.assertRaises(OutOfPlace, runs.most_moves, RING, thing)
+            self.assertRaises(OutOfPlace, ranks.lively, RING, thing)
+            self.assertRaises(OutOfPlace, beats.line_at, RING, "a", thing)
             self.assertRaises(OutOfPlace, rules.after, RING, "ab", (thing, 0))
             self.assertRaises(OutOfPlace, rules.after, RING, "ab", (0, thing))
 

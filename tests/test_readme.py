@@ -21,7 +21,7 @@ class Readme(unittest.TestCase):
             literal = told.strip().partition(": ")[0]
             self.assertEqual(eval(call, names), ast.literal_eval(literal), row)
             checked += 1
-        self.assertEqual(checked, 10)
+        self.assertEqual(checked, 20)
 
 
 if __name__ == "__main__":

@@ -206,6 +206,11 @@ def is_stuck(task, line):
 def run_end(task, line, codes):
     """The LINE to which a RUN leads."""
     need_task(task)
+    return end_of_run(task, line, codes)
+
+
+def end_of_run(task, line, codes):
+    """The LINE to which a RUN of what is a TASK leads."""
     need_line(task, line)
     if not is_of_pairs(task[2], line):
         raise OutOfPlace("the line is no start")

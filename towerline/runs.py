@@ -98,6 +98,11 @@ def bad_run(task, towers):
     """A shortest RUN of so many towers to a LINE that is BAD, or None."""
     need_task(task)
     need_towers(towers)
+    return shortest_bad(task, towers)
+
+
+def shortest_bad(task, towers):
+    """What bad_run returns, of what is a TASK and a number of towers."""
     found = reached_lines(task, towers)
     for line in found:
         if has_bad(task, line):
@@ -109,6 +114,11 @@ def stuck_run(task, towers):
     """A shortest RUN of so many towers to a LINE that is STUCK, or None."""
     need_task(task)
     need_towers(towers)
+    return shortest_stuck(task, towers)
+
+
+def shortest_stuck(task, towers):
+    """What stuck_run returns, of what is a TASK and a number of towers."""
     found = reached_lines(task, towers)
     acting = acting_rules(task)
     for line in found:

@@ -23,11 +23,11 @@ def need_size(size):
 
 def need_table(task, table):
     """Refuse what is no TABLE for the SIGNS of a TASK."""
-    if not _is_table(task[0], table):
+    if not is_table(task[0], table):
         raise OutOfPlace("the table is no ascending tuple of windows of one size")
 
 
-def _is_table(signs, thing):
+def is_table(signs, thing):
     """Whether a thing is a TABLE for these SIGNS."""
     if not isinstance(thing, tuple) or not all([_is_window(signs, item) for item in thing]):
         return False
@@ -105,6 +105,30 @@ def _reached(steps, first):
     return found
 
 
+def wide_windows(living):
+    """The WINDOWS, of three signs at least, of all LINES that FIT a TABLE whose WINDOWS are all ALIVE.
+
+    Those of SIZE 3 are put together of those of SIZE 2, but for those that
+    end in ">>".
+    """
+    if not living or len(living[0]) > LEAST_SIZE:
+        return list(living)
+    ahead = {"<": ["<"]}
+    for window in living:
+        ahead.setdefault(window[1], []).append(window[0])
+    return [sign + window for window in living for sign in ahead[window[0]]]
+
+
+def threes_in(living):
+    """The strings of three signs in all LINES, with their edges, that FIT a TABLE whose WINDOWS are all ALIVE.
+
+    Those of which a tower is the middle one are all there; some of the others
+    may be missing.
+    """
+    # There are ">" enough behind a LINE for each of them to begin a WINDOW.
+    return list({window[:3]: True for window in wide_windows(living)})
+
+
 def _start_windows(task, size):
     """The WINDOWS of all STARTS."""
     # PAIRS are WINDOWS of SIZE 2; a walk over the ALIVE ones can always be
@@ -151,6 +175,11 @@ def is_closed(task, table):
     """Whether a TABLE is CLOSED for a TASK."""
     need_task(task)
     need_table(task, table)
+    return closes(task, table)
+
+
+def closes(task, table):
+    """Whether what is a TABLE is CLOSED for what is a TASK."""
     # The empty TABLE is of any SIZE: no START at all may be there.
     size = len(table[0]) if table else LEAST_SIZE
     known = {window: True for window in table}
@@ -169,6 +198,11 @@ def table_of(task, size):
     """The TABLE of this SIZE of a TASK: the CLOSED one with the fewest WINDOWS."""
     need_task(task)
     need_size(size)
+    return least_table(task, size)
+
+
+def least_table(task, size):
+    """The TABLE of what is a SIZE of what is a TASK."""
     news = _new_signs(task)
     known = {}
     fresh = _start_windows(task, size)
