@@ -1,6 +1,8 @@
 """Promise [7]: all is told of so many towers."""
 
 import random
+import time
+import tracemalloc
 import unittest
 
 from tests.samples import (
@@ -19,6 +21,12 @@ ONE_MORE = ["<f", "f>", "ff"]
 IDLE = (("<", "f", ">", "a"),)
 # At this START one rule may act once, and brings a line that is no START.
 ONCE = (("<", "f", "f", "a"),)
+
+
+# 4 ** 8 lines of 8 towers are STARTS, 4 ** 7 of 7.
+FOUR = ("abcd", (("a", "a", "a", "b"),), all_pairs("abcd"), (), ())
+# The same STARTS, but by moves all lines of "a" to "e" come.
+FOUR_AND_MORE = ("abcde", (("<abcde", "a", ">abcde", "e"),), all_pairs("abcd"), (), ())
 
 
 def with_starts(starts, rules):
@@ -216,6 +224,46 @@ class Limits(unittest.TestCase):
                 self.assertEqual(caught.exception.most, 20000)
         self.assertEqual(len(lines_that_come(by_moves, 5)), 6 ** 5)
         self.assertEqual(lines_that_come(by_starts, 1), tuple("abcdef"))
+
+    def test_too_many_starts_are_told_without_making_them(self):
+        for call in calls(FOUR, 8) + calls(with_starts(all_pairs("abcdef"), IDLE), 8):
+            began = time.perf_counter()
+            tracemalloc.start()
+            for _ in range(20):
+                with self.assertRaises(TooGreat) as caught:
+                    call()
+                self.assertEqual(caught.exception.most, 20000)
+            _, most = tracemalloc.get_traced_memory()
+            tracemalloc.stop()
+            # 20,000 lines have some 60 bytes each. A slow machine may take ten times as long as asked.
+            self.assertLess(most, 200000)
+            self.assertLess(time.perf_counter() - began, 20 * 0.01)
+
+    def test_16384_starts_are_not_too_many(self):
+        self.assertEqual(len(lines_that_come(FOUR, 7)), 4 ** 7)
+        self.assertIsNone(bad_run(FOUR, 7))
+        self.assertEqual(stuck_run(FOUR, 7)[1], ())
+        self.assertEqual(most_moves(FOUR, 7), 3)
+        self.assertEqual(many_runs(FOUR, 7, 0), 4 ** 7)
+
+    def test_too_many_lines_of_fewer_starts(self):
+        self.assertEqual(len(lines_that_come(FOUR_AND_MORE, 6)), 5 ** 6)
+        for call in calls(FOUR_AND_MORE, 7):
+            with self.assertRaises(TooGreat) as caught:
+                call()
+            self.assertEqual(caught.exception.most, 20000)
+
+    def test_other_arguments_come_ahead_of_too_many_starts(self):
+        for call in calls(FOUR, 9) + calls(FOUR, 0) + (lambda: many_runs(FOUR, 8, 201), lambda: many_runs(FOUR, 8, -1)):
+            self.assertRaises(OutOfPlace, call)
+
+    def test_numbers_of_starts(self):
+        draw = random.Random(101)
+        for at in range(60):
+            task = drawn_task(draw, 2 + at % 3)
+            towers = 1 + at % 5
+            starts = [line for line, far in slow_distances(task, towers).items() if far == 0]
+            self.assertEqual(many_runs(task, towers, 0), len(starts))
 
     def test_starts_that_lead_nowhere_are_not_counted(self):
         starts = [pair for pair in all_pairs("abcdef") if pair[1] != ">"]

@@ -14,21 +14,37 @@ def need_towers(towers):
     need_integer(towers, 1, MOST_TOWERS, "the number of towers")
 
 
+def _followers_of(pairs):
+    """For "<" and each sign the signs, ascending, that may follow it by some PAIRS."""
+    followers = {"<": []}
+    for pair in pairs:
+        followers.setdefault(pair[0], []).append(pair[1])
+    return followers
+
+
+def _start_ends(followers, towers):
+    """For 1 tower, 2 towers and so on how many ends of STARTS, of so many towers, begin with a sign.
+
+    Signs with which none begins are left out.
+    """
+    ends = [{sign: 1 for sign in followers if ">" in followers[sign]}]
+    for _ in range(towers - 1):
+        shorter = ends[-1]
+        many = {sign: sum([shorter.get(later, 0) for later in followers[sign]]) for sign in followers}
+        ends.append({sign: many[sign] for sign in many if many[sign] > 0})
+    return ends
+
+
 def _start_lines(task, towers):
     """The STARTS of so many towers, ascending."""
-    signs = task[0]
-    pairs = task[2]
-    # Only beginnings that can be led on to a START are kept, so that too many
-    # of them are too many LINES that COME.
-    enders = [[sign for sign in signs if sign + ">" in pairs]]
-    for _ in range(towers - 1):
-        lasts = enders[-1]
-        enders.append([sign for sign in signs if any([sign + last in pairs for last in lasts])])
-    lines = [sign for sign in enders[-1] if "<" + sign in pairs]
+    followers = _followers_of(task[2])
+    ends = _start_ends(followers, towers)
+    # All of them COME, so too many are told ahead of making a single one.
+    if sum([ends[-1].get(sign, 0) for sign in followers["<"]]) > MOST_LINES:
+        raise TooGreat(MOST_LINES)
+    lines = [sign for sign in followers["<"] if sign in ends[-1]]
     for left in range(towers - 2, -1, -1):
-        lines = [line + sign for line in lines for sign in enders[left] if line[-1] + sign in pairs]
-        if len(lines) > MOST_LINES:
-            raise TooGreat(MOST_LINES)
+        lines = [line + sign for line in lines for sign in followers[line[-1]] if sign in ends[left]]
     return lines
 
 
