@@ -22,14 +22,25 @@ def is_tuple(thing, least, most):
 
 def is_word(thing, signs):
     """Whether a thing is a string of some signs, at least one."""
+    # strip goes through the string at once; it leaves nothing of such a one alone.
+    return isinstance(thing, str) and thing != "" and thing.strip(signs) == ""
+
+
+def is_rising_word(thing, signs):
+    """Whether a thing is an ascending string of some signs, at least one."""
     if not isinstance(thing, str) or thing == "":
         return False
-    return all([sign in signs for sign in thing])
+    ahead = ""
+    for sign in thing:
+        if sign <= ahead or sign not in signs:
+            return False
+        ahead = sign
+    return True
 
 
 def is_ascending(row):
-    """Whether each item of a string or a tuple of strings is greater than the one ahead."""
-    return all([row[at - 1] < row[at] for at in range(1, len(row))])
+    """Whether each item of a tuple of strings is greater than the one ahead."""
+    return sorted(row) == list(row) and len(set(row)) == len(row)
 
 
 def need_integer(thing, least, most, name):

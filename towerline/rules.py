@@ -1,13 +1,15 @@
 """Tasks, lines, moves and runs along given moves: points [2] and [3]."""
 
 from towerline.errors import BadTask, OutOfPlace
-from towerline.kinds import is_ascending, is_integer, is_tuple, is_word
+from towerline.kinds import is_ascending, is_integer, is_rising_word, is_tuple, is_word
 
 LETTERS = "abcdefghijklmnopqrstuvwxyz"
 LEAST_SIGNS = 2
 MOST_SIGNS = 6
 MOST_RULES = 24
 MOST_BAD = 12
+LEAST_BAD = 1
+LONGEST_BAD = 3
 MOST_MOVES = 1000
 
 
@@ -31,57 +33,55 @@ def need_task(thing):
 
 def _are_signs(thing):
     """Whether a thing can be the SIGNS of a TASK."""
-    if not is_word(thing, LETTERS) or not is_ascending(thing):
-        return False
-    return LEAST_SIGNS <= len(thing) <= MOST_SIGNS
+    return is_rising_word(thing, LETTERS) and LEAST_SIGNS <= len(thing) <= MOST_SIGNS
 
 
 def _are_rules(signs, thing):
     """Whether a thing can be the RULES of a TASK with these SIGNS."""
     if not is_tuple(thing, 1, MOST_RULES):
         return False
-    return all([_is_rule(signs, rule) for rule in thing])
-
-
-def _is_rule(signs, thing):
-    """Whether a thing can be one rule of a TASK with these SIGNS."""
-    if not is_tuple(thing, 4, 4):
-        return False
-    left, own, right, new = thing
-    if not _is_sign(signs, own) or not _is_sign(signs, new) or own == new:
-        return False
-    return _are_neighbours("<" + signs, left) and _are_neighbours(">" + signs, right)
+    lefts = "<" + signs
+    rights = signs + ">"
+    for rule in thing:
+        if not is_tuple(rule, 4, 4):
+            return False
+        left, own, right, new = rule
+        if not _is_sign(signs, own) or not _is_sign(signs, new) or own == new:
+            return False
+        if not is_rising_word(left, lefts) or not is_rising_word(right, rights):
+            return False
+    return True
 
 
 def _is_sign(signs, thing):
     """Whether a thing is one of the SIGNS."""
-    return is_word(thing, signs) and len(thing) == 1
-
-
-def _are_neighbours(signs, thing):
-    """Whether a thing can be the LEFT or RIGHT of a rule."""
-    return is_word(thing, signs) and is_ascending(thing)
+    return isinstance(thing, str) and len(thing) == 1 and thing in signs
 
 
 def _are_pairs(signs, thing):
     """Whether a thing can be the STARTS or ENDS of a TASK with these SIGNS."""
     if not isinstance(thing, tuple):
         return False
-    return all([_is_edged(signs, pair, 2, 2) for pair in thing]) and is_ascending(thing)
+    for pair in thing:
+        if not isinstance(pair, str) or len(pair) != 2:
+            return False
+    # All first signs, and all second ones, are looked at together.
+    text = "".join(thing)
+    if text[::2].strip("<" + signs) != "" or text[1::2].strip(signs + ">") != "":
+        return False
+    return "<>" not in thing and is_ascending(thing)
 
 
 def _are_bad(signs, thing):
     """Whether a thing can be the BAD of a TASK with these SIGNS."""
     if not is_tuple(thing, 0, MOST_BAD):
         return False
-    return all([_is_edged(signs, word, 1, 3) for word in thing]) and is_ascending(thing)
-
-
-def _is_edged(signs, thing, least, most):
-    """Whether a thing is a string of least to most SIGNS, of which "<" may be the first, ">" the last."""
-    if not isinstance(thing, str) or not least <= len(thing) <= most:
-        return False
-    return is_word(thing.removeprefix("<").removesuffix(">"), signs)
+    for word in thing:
+        if not isinstance(word, str) or not LEAST_BAD <= len(word) <= LONGEST_BAD:
+            return False
+        if not is_word(word.removeprefix("<").removesuffix(">"), signs):
+            return False
+    return is_ascending(thing)
 
 
 def need_line(task, line):
@@ -155,24 +155,24 @@ def after(task, line, move):
 
 def _behind_all(task, line, codes):
     """The LINE behind some MOVES, one behind the other."""
-    acting = acting_rules(task)
     whole = list(whole_of(line))
     for move in codes:
-        if not _is_move(task, acting, whole, move):
+        if not _is_move(task, whole, move):
             raise OutOfPlace("a move is none at the line at which it stands")
         tower, number = move
         whole[tower + 1] = task[1][number][3]
     return "".join(whole[1:-1])
 
 
-def _is_move(task, acting, whole, thing):
+def _is_move(task, whole, thing):
     """Whether a thing is a MOVE at the LINE with the WHOLE, a list."""
     if not is_tuple(thing, 2, 2):
         return False
     tower, number = thing
     if not is_integer(tower, 0, len(whole) - 3) or not is_integer(number, 0, len(task[1]) - 1):
         return False
-    return number in acting.get("".join(whole[tower:tower + 3]), [])
+    left, own, right, _ = task[1][number]
+    return whole[tower] in left and whole[tower + 1] == own and whole[tower + 2] in right
 
 
 def is_start(task, line):

@@ -6,8 +6,8 @@ edge of ">". So all is told by these steps, without going through LINES.
 """
 
 from towerline.errors import OutOfPlace, TooGreat
-from towerline.kinds import is_ascending, is_word, need_integer
-from towerline.rules import LETTERS, acting_rules, need_line, need_task
+from towerline.kinds import is_word, need_integer
+from towerline.rules import LETTERS, need_line, need_task
 
 LEAST_SIZE = 2
 MOST_SIZE = 4
@@ -29,16 +29,20 @@ def need_table(task, table):
 
 def is_table(signs, thing):
     """Whether a thing is a TABLE for these SIGNS."""
-    if not isinstance(thing, tuple) or not all([_is_window(signs, item) for item in thing]):
+    if not isinstance(thing, tuple):
         return False
-    return all([len(window) == len(thing[0]) for window in thing]) and is_ascending(thing)
-
-
-def _is_window(signs, thing):
-    """Whether a thing is a WINDOW, of any SIZE, for these SIGNS."""
-    if not isinstance(thing, str) or not LEAST_SIZE <= len(thing) <= MOST_SIZE:
-        return False
-    return is_word(thing.lstrip("<").rstrip(">"), signs)
+    size = None
+    ahead = ""
+    for window in thing:
+        if not isinstance(window, str) or window <= ahead:
+            return False
+        if size is None:
+            size = len(window)
+        tower_signs = window.lstrip("<").rstrip(">")
+        if len(window) != size or tower_signs == "" or tower_signs.strip(signs) != "":
+            return False
+        ahead = window
+    return size is None or LEAST_SIZE <= size <= MOST_SIZE
 
 
 def _windows_in(size, line):
@@ -63,8 +67,7 @@ def does_fit(task, table, line):
     need_line(task, line)
     if not table:
         return False
-    known = {window: True for window in table}
-    return all([window in known for window in _windows_in(len(table[0]), line)])
+    return len(set(_windows_in(len(table[0]), line)) - set(table)) == 0
 
 
 def alive(task, table):
@@ -78,17 +81,18 @@ def alive_windows(table):
     """The WINDOWS of a TABLE that are ALIVE: those on a path from edge to edge."""
     if not table:
         return ()
+    steps = [(window[:-1], window[1:]) for window in table]
     onward = {}
     backward = {}
-    for window in table:
-        onward.setdefault(window[:-1], []).append(window[1:])
-        backward.setdefault(window[1:], []).append(window[:-1])
+    for ahead, behind in steps:
+        onward.setdefault(ahead, []).append(behind)
+        backward.setdefault(behind, []).append(ahead)
     edge = len(table[0]) - 1
-    ahead = _reached(onward, "<" * edge)
-    behind = _reached(backward, ">" * edge)
+    begun = _reached(onward, "<" * edge)
+    ended = _reached(backward, ">" * edge)
     return tuple([
-        window for window in table
-        if window[:-1] in ahead and window[1:] in behind
+        window for window, (ahead, behind) in zip(table, steps)
+        if ahead in begun and behind in ended
     ])
 
 
@@ -133,41 +137,45 @@ def _start_windows(task, size):
     """The WINDOWS of all STARTS."""
     # PAIRS are WINDOWS of SIZE 2; a walk over the ALIVE ones can always be
     # led on to both edges, so it stands in some START.
-    steps = [*alive_windows(task[2]), "<<", ">>"]
-    words = steps
-    for _ in range(size - 2):
-        words = [word + pair[1] for word in words for pair in steps if pair[0] == word[-1]]
+    followers = {"<": ["<"], ">": [">"]}
+    for first, second in alive_windows(task[2]):
+        followers.setdefault(first, []).append(second)
+    words = list(followers)
+    for _ in range(size - 1):
+        words = [word + sign for word in words for sign in followers[word[-1]]]
     return [word for word in words if word.strip("<>") != ""]
 
 
 def _new_signs(task):
     """For three signs side by side those that the middle tower may show next."""
-    return {
-        seen: sorted(set([task[1][number][3] for number in numbers]))
-        for seen, numbers in acting_rules(task).items()
-    }
+    news = {}
+    for left_signs, own, right_signs, new in task[1]:
+        for left in left_signs:
+            for right in right_signs:
+                shown = news.setdefault(left + own + right, [])
+                if new not in shown:
+                    shown.append(new)
+    return news
 
 
-def _spans_from(signs, known, window):
-    """The spans, of one sign more than a WINDOW, with this one and one that is known behind it."""
-    return [window + sign for sign in signs + ">" if window[1:] + sign in known]
+# Behind a MOVE each WINDOW with the tower that moves is another one. This tower
+# is an inner one of it, with both of its neighbours; or it is the first or the
+# last one, with one neighbour beside it, in a span: a WINDOW and one sign more.
+
+def _moved_inside(news, windows):
+    """The WINDOWS that take the place of some behind MOVES of their inner towers."""
+    return [
+        window[:at] + new + window[at + 1:]
+        for window in windows
+        for at in range(1, len(window) - 1)
+        for new in news.get(window[at - 1:at + 2], ())
+    ]
 
 
-def _spans_to(signs, known, window):
-    """The spans, of one sign more than a WINDOW, with one that is known and this one behind it."""
-    return [sign + window for sign in "<" + signs if sign + window[:-1] in known]
-
-
-def _changed(news, span):
-    """The WINDOWS that a MOVE at an inner tower of a span puts in it."""
-    # Each WINDOW with the tower that moves stands in a span in which both
-    # neighbours of this tower stand, so that no wider look is needed.
-    found = []
-    for at in range(1, len(span) - 1):
-        for new in news.get(span[at - 1:at + 2], []):
-            moved = span[:at] + new + span[at + 1:]
-            found.append(moved[:-1])
-            found.append(moved[1:])
+def _moved_ends(news, spans):
+    """The WINDOWS that take the place of the first ones, and the last ones, of spans behind MOVES in both."""
+    found = [span[:-2] + new for span in spans for new in news.get(span[-3:], ())]
+    found.extend([new + span[2:] for span in spans for new in news.get(span[:3], ())])
     return found
 
 
@@ -182,15 +190,19 @@ def closes(task, table):
     """Whether what is a TABLE is CLOSED for what is a TASK."""
     # The empty TABLE is of any SIZE: no START at all may be there.
     size = len(table[0]) if table else LEAST_SIZE
-    known = {window: True for window in table}
-    if not all([window in known for window in _start_windows(task, size)]):
-        return False
+    known = set(table)
+    for window in _start_windows(task, size):
+        if window not in known:
+            return False
     news = _new_signs(task)
-    living = {window: True for window in alive_windows(table)}
+    living = alive_windows(table)
+    followers = {}
     for window in living:
-        for span in _spans_from(task[0], living, window):
-            if not all([moved in known for moved in _changed(news, span)]):
-                return False
+        followers.setdefault(window[:-1], []).append(window[-1])
+    spans = [window + sign for window in living for sign in followers.get(window[1:], ())]
+    for moved in _moved_inside(news, living) + _moved_ends(news, spans):
+        if moved not in known:
+            return False
     return True
 
 
@@ -204,29 +216,26 @@ def table_of(task, size):
 def least_table(task, size):
     """The TABLE of what is a SIZE of what is a TASK."""
     news = _new_signs(task)
-    known = {}
-    fresh = _start_windows(task, size)
-    while fresh:
-        for window in fresh:
-            known[window] = True
-        # All that was found is in each CLOSED TABLE, so more is too great for good.
-        if len(known) > MOST_WINDOWS:
-            raise TooGreat(MOST_WINDOWS)
-        fresh = _brought_by(task[0], news, known, fresh)
-    return tuple(sorted(known))
-
-
-def _brought_by(signs, news, known, fresh):
-    """The WINDOWS not yet known that MOVES bring in spans with a fresh one."""
+    waiting = _start_windows(task, size)
+    known = {window: True for window in waiting}
+    behind = {}
+    ahead = {}
     # All that is known is ALIVE in the end: what a MOVE brings stands in the
     # LINE behind this MOVE, and all else of that LINE is brought as well.
-    brought = {}
-    for window in fresh:
-        for span in _spans_from(signs, known, window) + _spans_to(signs, known, window):
-            for moved in _changed(news, span):
-                if moved not in known:
-                    brought[moved] = True
-    return list(brought)
+    while waiting:
+        # All that is known is in each CLOSED TABLE, so more is too great for good.
+        if len(known) > MOST_WINDOWS:
+            raise TooGreat(MOST_WINDOWS)
+        window = waiting.pop()
+        behind.setdefault(window[:-1], []).append(window[-1])
+        ahead.setdefault(window[1:], []).append(window[0])
+        spans = [window + sign for sign in behind.get(window[1:], ())]
+        spans.extend([sign + window for sign in ahead.get(window[:-1], ())])
+        for moved in _moved_inside(news, [window]) + _moved_ends(news, spans):
+            if moved not in known:
+                known[moved] = True
+                waiting.append(moved)
+    return tuple(sorted(known))
 
 
 def many_lines(task, table, towers):
