@@ -86,22 +86,15 @@ class Orbit:
             whole = self.behind(whole)
         return whole
 
-    def first_in_round(self, most, beats_round):
-        """The least number of BEATS behind which all comes again with this ROUND, if it does behind most."""
-        low = 0
-        high = most // self.stride
-        while low < high:
-            at = (low + high) // 2
-            if self.whole_at(at * self.stride + beats_round) == self.kept[at]:
-                high = at
-            else:
-                low = at + 1
-        if high == 0:
+    def first_again(self, ahead, many):
+        """The least number of BEATS behind which all comes again many BEATS later, by what go_round returned."""
+        if ahead == 0:
             return 0
-        # The one that is kept ahead of this one does not come again.
-        first = (high - 1) * self.stride
-        one = self.kept[high - 1]
-        other = self.whole_at(first + beats_round)
+        # Of all that are kept the one at ahead is the first that comes again:
+        # one ahead of it would have been met sooner.
+        first = ahead - self.stride
+        one = self.whole_at(first)
+        other = self.whole_at(first + many)
         while one != other:
             one = self.behind(one)
             other = self.behind(other)
@@ -123,7 +116,8 @@ def fate(task, line):
     orbit = Orbit(task, line)
     # There are fewer LINES of so many towers than MOST_BEATS.
     last, ahead = orbit.go_round(MOST_BEATS)
-    return (orbit.first_in_round(ahead, last - ahead), last - ahead)
+    many = last - ahead
+    return (orbit.first_again(ahead, many), many)
 
 
 def line_at(task, line, beats):
