@@ -1,5 +1,6 @@
 """Promise [3]: lines, moves, starts, ends, bad and stuck lines, runs."""
 
+import itertools
 import random
 import unittest
 
@@ -148,8 +149,11 @@ class Moves(unittest.TestCase):
             for line in lines_up_to(task[0], 4):
                 told = slow_moves(task, line)
                 self.assertEqual(moves(task, line), told)
-                for move in told:
-                    self.assertEqual(after(task, line, move), slow_after(task, line, move))
+                for move in itertools.product(range(-1, len(line) + 4), range(-1, len(task[1]) + 1)):
+                    if move in told:
+                        self.assertEqual(after(task, line, move), slow_after(task, line, move))
+                    else:
+                        self.assertRaises(OutOfPlace, after, task, line, move)
                 self.assertIs(is_start(task, line), slow_is_of(task[2], line))
                 self.assertIs(is_end(task, line), slow_is_of(task[4], line))
                 self.assertIs(is_bad(task, line), slow_is_bad(task, line))

@@ -14,37 +14,37 @@ def need_towers(towers):
     need_integer(towers, 1, MOST_TOWERS, "the number of towers")
 
 
-def _followers_of(pairs):
+def _next_signs(pairs):
     """For "<" and each sign the signs, ascending, that may follow it by some PAIRS."""
-    followers = {"<": []}
+    nexts = {"<": []}
     for pair in pairs:
-        followers.setdefault(pair[0], []).append(pair[1])
-    return followers
+        nexts.setdefault(pair[0], []).append(pair[1])
+    return nexts
 
 
-def _start_ends(followers, towers):
+def _start_ends(nexts, towers):
     """For 1 tower, 2 towers and so on how many ends of STARTS, of so many towers, begin with a sign.
 
     Signs with which none begins are left out.
     """
-    ends = [{sign: 1 for sign in followers if ">" in followers[sign]}]
+    ends = [{sign: 1 for sign in nexts if ">" in nexts[sign]}]
     for _ in range(towers - 1):
         shorter = ends[-1]
-        many = {sign: sum([shorter.get(later, 0) for later in followers[sign]]) for sign in followers}
+        many = {sign: sum([shorter.get(later, 0) for later in nexts[sign]]) for sign in nexts}
         ends.append({sign: many[sign] for sign in many if many[sign] > 0})
     return ends
 
 
 def _start_lines(task, towers):
     """The STARTS of so many towers, ascending."""
-    followers = _followers_of(task[2])
-    ends = _start_ends(followers, towers)
+    nexts = _next_signs(task[2])
+    ends = _start_ends(nexts, towers)
     # All of them COME, so too many are told ahead of making a single one.
-    if sum([ends[-1].get(sign, 0) for sign in followers["<"]]) > MOST_LINES:
+    if sum([ends[-1].get(sign, 0) for sign in nexts["<"]]) > MOST_LINES:
         raise TooGreat(MOST_LINES)
-    lines = [sign for sign in followers["<"] if sign in ends[-1]]
+    lines = [sign for sign in nexts["<"] if sign in ends[-1]]
     for left in range(towers - 2, -1, -1):
-        lines = [line + sign for line in lines for sign in followers[line[-1]] if sign in ends[left]]
+        lines = [line + sign for line in lines for sign in nexts[line[-1]] if sign in ends[left]]
     return lines
 
 
