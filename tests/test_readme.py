@@ -1,4 +1,4 @@
-"""The example in README.md returns what its comments tell."""
+"""The examples in README.md return what their comments tell."""
 
 import ast
 import pathlib
@@ -8,8 +8,15 @@ README = pathlib.Path(__file__).parent.parent / "README.md"
 
 
 class Readme(unittest.TestCase):
-    def test_the_example(self):
-        code = README.read_text().split("```python\n")[1].split("```")[0]
+    def test_the_first_example(self):
+        self.assertEqual(self.checked(0), 20)
+
+    def test_the_second_example(self):
+        self.assertEqual(self.checked(1), 25)
+
+    def checked(self, number):
+        """How many calls of an example return what is told; fails if one doesn't."""
+        code = README.read_text().split("```python\n")[number + 1].split("```")[0]
         names = {}
         checked = 0
         exec(code, names)
@@ -21,7 +28,7 @@ class Readme(unittest.TestCase):
             literal = told.strip().partition(": ")[0]
             self.assertEqual(eval(call, names), ast.literal_eval(literal), row)
             checked += 1
-        self.assertEqual(checked, 20)
+        return checked
 
 
 if __name__ == "__main__":

@@ -1,7 +1,7 @@
 """What the papers of always.py and stuck.py have in common: point [5].
 
 A paper is either a RUN to a LINE of some kind, or a CLOSED TABLE that no LINE
-of this kind FITS.
+of this kind FITS. Those of clearness.py have words likewise.
 """
 
 from towerline.errors import BadPaper, OutOfPlace
@@ -30,18 +30,18 @@ def first_run(task, shortest):
     return None
 
 
-def paper_word(paper, run_word, table_word):
-    """The word of a paper, if it has the form of a RUN or of a TABLE."""
-    if is_tuple(paper, 3, 3) and _is_text(paper[0], run_word):
-        return run_word
-    if is_tuple(paper, 2, 2) and _is_text(paper[0], table_word):
-        return table_word
+def paper_word(paper, triple_word, pair_word):
+    """The word of a paper that is a triple with the one word, or a pair with the other one."""
+    if is_tuple(paper, 3, 3) and _is_string(paper[0], triple_word):
+        return triple_word
+    if is_tuple(paper, 2, 2) and _is_string(paper[0], pair_word):
+        return pair_word
     raise BadPaper("form")
 
 
-def _is_text(thing, text):
+def _is_string(thing, string):
     """Whether a thing is this string."""
-    return isinstance(thing, str) and thing == text
+    return isinstance(thing, str) and thing == string
 
 
 def run_lead(task, line, codes):
