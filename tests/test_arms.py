@@ -110,7 +110,7 @@ class NeedAlphabet(unittest.TestCase):
 
     def test_letters(self):
         for at in range(4):
-            for thing in odd_things() + ["", "aa", "A", "{", "`", "/", ":", "\u00e9", "\u00b2", "\u0660", ("a",)]:
+            for thing in odd_things() + ["", "aa", "ab", "01", "yz", "A", "{", "`", "/", ":", "\u00e9", "\u00b2", "\u0660", ("a",)]:
                 # A number of odd things is no letter; "<" and the like are strings of one sign, too.
                 self.assertEqual(self.part(self.replaced(ONE, at, 0, thing)), "letter")
         self.assertEqual(self.part(self.replaced(ONE, 1, 0, "a")), "letter")

@@ -5,8 +5,9 @@ import inspect
 import unittest
 
 from tests.samples import Odd
-from towerline import arms, books, clearness, times
-from towerline.errors import BadAlphabet, BadBook, BadPaper, BadRoad, OutOfPlace, TooGreat
+from towerline import arms, books, chains, clearness, fog, texts, times
+from towerline.chains import Chain
+from towerline.errors import BadAlphabet, BadBook, BadPaper, BadRoad, BadText, OutOfPlace, TooGreat
 
 ALPHABET = (2, (("a", (0, 1)), ("b", (0, 7)), ("c", (3, 3))))
 BOOK = (("no", "0"), ("one", "1"), ("both", "01"))
@@ -22,6 +23,9 @@ TEXTS = ("noone", (None, "A", "a" * 201, 5, ["a"], b"a", Odd()), OutOfPlace)
 ROWS = ("0101", (None, "A", "0" * 201, 5, ["0"], b"0", Odd()), OutOfPlace)
 TOWERS = (1, (None, -1, 3, True, "1", 1.0, Odd()), OutOfPlace)
 GREAT = (5, (None, -1, 10 ** 30 + 1, True, "1", 1.0, Odd()), OutOfPlace)
+FOG_ROWS = ("abca", (None, "A", "a" * 61, 5, ["a"], b"a", Odd()), OutOfPlace)
+COUNTS = (3, (None, -1, 301, True, "1", 1.0, Odd()), OutOfPlace)
+STRINGS = (None, "x", "\n", 5, b"a b", ["a b"], Odd())
 
 # The modules, their functions, the arguments of these, the kind of what they return.
 INTERFACE = {
@@ -75,6 +79,36 @@ INTERFACE = {
             int,
         ),
         "slowest": ({"road": ROADS}, tuple),
+    },
+    fog: {
+        "can_come": (
+            {"row": FOG_ROWS, "sent": ("abcabc", (None, "A", "a" * 121, 5, ["a"], b"a", Odd()), OutOfPlace)}, bool,
+        ),
+        "many_sent": (
+            {"letters": (26, (None, 0, 41, True, "1", Odd()), OutOfPlace), "length": COUNTS, "signs": COUNTS}, int,
+        ),
+        "least_one": ({"row": FOG_ROWS, "other": FOG_ROWS}, int),
+        "one_row": ({"row": FOG_ROWS, "other": FOG_ROWS}, str),
+        "row_paper": ({"row": FOG_ROWS, "other": FOG_ROWS}, tuple),
+        "check_row": (
+            {
+                "row": FOG_ROWS, "other": FOG_ROWS,
+                "paper": (fog.row_paper("abca", "abca"), (None, (), ("abca",), ("abca", ()), Odd()), BadPaper),
+            },
+            int,
+        ),
+    },
+    chains: {
+        "under": (
+            {"chain": (Chain(ROAD), (None, (), ROAD, Odd()), OutOfPlace), "deed": (len, (None, 5, "a", ()), OutOfPlace)},
+            int,
+        ),
+    },
+    texts: {
+        "road_text": ({"road": ROADS}, str),
+        "book_text": ({"book": BOOKS}, str),
+        "read_road": ({"string": ("0 1 0", STRINGS, BadText)}, tuple),
+        "read_book": ({"string": ("a b", STRINGS, BadText)}, tuple),
     },
 }
 FUNCTIONS = [

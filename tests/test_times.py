@@ -3,20 +3,11 @@
 import random
 import unittest
 
+from tests.roads import ALONE, FLAT, LATE, LEAST, MOST, PLAIN, ROADS, SLOW, drawn_road
 from tests.samples import Odd, odd_things
 from towerline.errors import BadRoad, OutOfPlace
 from towerline.times import lag, like_when, need_road, pace, shown, slowest, when
 
-ALONE = ((7, 3, 9),)
-PLAIN = ((0, 2, 1), (1, 3, 1), (2, 1, 4))
-FLAT = ((0, 1, 0), (0, 1, 0), (0, 1, 0))
-# The last RING is the slowest one, and far from the first TOWER.
-LATE = ((0, 1, 0), (1, 1, 0), (1, 1, 0), (1, 1, 9), (9, 1, 0))
-# It takes many signs until the slowest one, that is slower by little, is felt.
-SLOW = ((0, 10, 0), (1, 1, 1), (1, 1, 1), (4, 1, 7))
-MOST = ((1000, 1000, 1000),) * 40
-LEAST = ((0, 1, 0),)
-ROADS = (ALONE, PLAIN, FLAT, LATE, SLOW, MOST, LEAST)
 MANY = 10 ** 30
 
 
@@ -51,15 +42,6 @@ def slow_lag(times, beat):
         if any(two - one != beat for one, two in zip(times[sign], times[sign + 1]))
     ]
     return late[-1] + 1 if late else 0
-
-
-def drawn_road(draw, most_towers=6):
-    """A road drawn by a random.Random."""
-    most = draw.choice([1, 2, 3, 8])
-    return tuple(
-        (draw.randint(0, most), draw.randint(1, most), draw.randint(0, most))
-        for _ in range(draw.randint(1, most_towers))
-    )
 
 
 class NeedRoad(unittest.TestCase):
@@ -150,7 +132,7 @@ class When(unittest.TestCase):
 
 class PaceAndLag(unittest.TestCase):
     def test_pace(self):
-        self.assertEqual([pace(road) for road in ROADS], [3, 3, 1, 18, 10, 2000, 1])
+        self.assertEqual([pace(road) for road in ROADS], [3, 3, 1, 18, 11, 2000, 1])
         self.assertEqual(pace(road=((1000, 2, 1), (3, 1, 1000))), 4)
         draw = random.Random(13)
         for _ in range(200):

@@ -97,6 +97,14 @@ def _telling_to_end(book, lasts):
     return tuple(numbers[::-1])
 
 
+def _paper_on(book, text):
+    """What cost_paper returns, of what are a BOOK and a text."""
+    costs, lasts = _cheapest(book, text)
+    if costs[-1] is None:
+        return None
+    return (_telling_to_end(book, lasts), tuple(costs))
+
+
 def least_cost(book, text):
     """LEAST COST of a text, or None without a TELLING."""
     need_book(book)
@@ -109,10 +117,8 @@ def telling(book, text):
     """A TELLING of a text with LEAST COST, or None without any."""
     need_book(book)
     need_text(text, MOST_TEXT, "the text")
-    costs, lasts = _cheapest(book, text)
-    if costs[-1] is None:
-        return None
-    return _telling_to_end(book, lasts)
+    paper = _paper_on(book, text)
+    return None if paper is None else paper[0]
 
 
 def many_tellings(book, text):
@@ -146,10 +152,7 @@ def cost_paper(book, text):
     """A paper on LEAST COST of a text: (TELLING, BOUNDS), or None without a TELLING."""
     need_book(book)
     need_text(text, MOST_TEXT, "the text")
-    costs, lasts = _cheapest(book, text)
-    if costs[-1] is None:
-        return None
-    return (_telling_to_end(book, lasts), tuple(costs))
+    return _paper_on(book, text)
 
 
 def check_cost(book, text, paper):

@@ -117,9 +117,8 @@ def _are_rests(codes, thing):
         return False
     if not is_ascending(thing):
         return False
-    # Of one that is a CODE nothing is left, and this is never among them.
-    known = set(thing)
     wanted = _first_rests(codes)
     for rest in thing:
         wanted.extend(_next_rests(codes, rest))
-    return all([rest in known for rest in wanted])
+    # Of one that is a CODE nothing is left, and this is never among them.
+    return len(set(wanted) - set(thing)) == 0

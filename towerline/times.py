@@ -115,8 +115,9 @@ def _late_signs(rings, paces):
     best = max([terms[at] for at in range(len(paces)) if paces[at] == paces[last]])
     late = 0
     for at in range(len(paces)):
-        gain = paces[last] - paces[at]
-        if gain > 0 and terms[at] > best:
+        # A greater one than the best one with PACE grows by less, so that one gains on it.
+        if terms[at] > best:
+            gain = paces[last] - paces[at]
             late = max(late, (terms[at] - best + gain - 1) // gain)
     return late
 
@@ -132,10 +133,8 @@ def shown(road, tower, moment):
         return None
     number = left // paces[tower]
     for at in range(tower + 1, len(road)):
-        # The term of a TOWER counts only from this sign on.
+        # The term of a TOWER counts only from this sign on, so those ahead of it it never holds up.
         first = at - tower
-        if number < first:
-            break
         most = first + (left - rings[at] + rings[tower]) // paces[at]
         number = min(number, max(most, first - 1))
     return number
